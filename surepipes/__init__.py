@@ -1,0 +1,1 @@
+"""Surepipes: nets of pipes whose curves nobody knows."""

@@ -1,0 +1,281 @@
+"""Looks for breaks of ../shared/LANGUAGE.md in the files of the package, as far as one can see them in the text."""
+
+import ast
+import builtins
+import io
+import tokenize
+
+LIBRARY = {"math": {"gcd", "lcm", "isqrt", "comb", "perm", "factorial"},
+           "heapq": {"heappush", "heappop", "heapify", "heapreplace", "heappushpop"},
+           "itertools": {"product", "combinations", "permutations", "chain", "accumulate", "pairwise", "islice",
+                         "zip_longest"},
+           "collections": {"defaultdict", "deque"}, "__future__": {"annotations"}}
+
+BUILTINS = set("""len range enumerate zip min max sum abs sorted reversed int str bool bytes list tuple dict set
+    frozenset isinstance ord repr any all divmod pow getattr hasattr setattr iter next map type super property
+    staticmethod classmethod Exception ValueError TypeError KeyError IndexError LookupError ZeroDivisionError
+    ArithmeticError OverflowError RuntimeError NotImplementedError AttributeError StopIteration
+    NotImplemented""".split())
+
+KEYWORDS = {"sorted": {"key", "reverse"}, "min": {"key", "default"}, "max": {"key", "default"}, "sum": {"start"},
+            "enumerate": {"start"}, "zip": {"strict"}}
+
+DOUBLE = {f"__{name}__" for name in """init eq repr str len enter exit call iter lt le gt ge ne add sub mul floordiv
+    mod pow and or xor lshift rshift radd rsub rmul rfloordiv rmod rand ror rxor rlshift rrshift iadd isub imul
+    ifloordiv imod ipow iand ior ixor ilshift irshift neg pos invert abs bool contains getitem setitem""".split()}
+
+METHODS = set("""append clear copy count endswith extend find get index insert isalnum isalpha isdigit islower isspace
+    isupper items join keys ljust lower lstrip partition pop remove replace reverse rfind rjust rpartition rsplit
+    rstrip setdefault split splitlines startswith strip update upper values zfill bit_length title capitalize swapcase
+    casefold center expandtabs removeprefix removesuffix rindex isascii isdecimal isnumeric istitle isidentifier
+    isprintable add discard popleft appendleft extendleft rotate from_iterable format""".split())
+
+STATEMENTS = (ast.Assign, ast.AugAssign, ast.AnnAssign, ast.If, ast.While, ast.For, ast.Return, ast.Break,
+              ast.Continue, ast.Pass, ast.Raise, ast.Assert, ast.Delete, ast.Nonlocal, ast.Global, ast.Match, ast.With,
+              ast.Try, ast.Expr, ast.FunctionDef, ast.ClassDef, ast.ImportFrom)
+
+UNUSED = set("register mro elements open input law version_info with_traceback add_note".split())
+
+UNUSED_NAMES = set("""attrgetter breakpoint builtins compile copyright credits delattr dir eval exec exit gc globals
+    help id importlib license locals methodcaller os quit vars sys""".split())
+
+UNUSED_WORDS = set("""typing typing_extensions enum Enum IntEnum StrEnum Flag IntFlag Generic Protocol ABC ABCMeta
+    namedtuple NamedTuple TypedDict TYPE_CHECKING abstractmethod""".split())
+
+UNUSED_PARTS = ("dataclass", "overload", "contextmanager", "_wall", "_WallAttr", "(type)", "Meta", "metaclass=")
+
+
+def layout(text):
+    """L10, L14: sizes and characters."""
+    lines = text.split("\n")
+    if len(lines) - 1 > 399:
+        yield 399, "L10 a file has at most 399 lines"
+    for row, line in enumerate(lines, 1):
+        if len(line) > 120:
+            yield row, "L10 a line has at most 120 characters"
+        if any(not " " <= sign <= "~" for sign in line):
+            yield row, "L14 a character that is none from the space to ~"
+
+
+def words(text):
+    """L17, L27: what does not stand in names and strings."""
+    docstrings = docstring_rows(ast.parse(text))
+    for token in tokenize.generate_tokens(io.StringIO(text).readline):
+        if token.type not in (tokenize.NAME, tokenize.STRING) or token.start[0] in docstrings:
+            continue
+        inside = "".join(sign if sign.isalnum() or sign == "_" else " " for sign in token.string).split()
+        if UNUSED_WORDS & set(inside):
+            yield token.start[0], "L17 a word that is not used"
+        if token.type == tokenize.NAME and token.string in UNUSED:
+            yield token.start[0], f"L17 the name {token.string}"
+        if token.type == tokenize.STRING:
+            if "%" in token.string:
+                yield token.start[0], "L27 the character % in a string"
+            body = token.string.replace("\\\\", "")
+            if any(body[at + 1] not in "nt\"'" for at in range(len(body)) if body[at] == "\\"):
+                yield token.start[0], "L27 an escape that is not used"
+    for part in UNUSED_PARTS:
+        if part in text:
+            yield text[:text.index(part)].count("\n") + 1, f"L12, L17 {part}"
+
+
+def docstring_rows(tree):
+    rows = set()
+    for node in ast.walk(tree):
+        if isinstance(node, (ast.Module, ast.ClassDef, ast.FunctionDef)) and ast.get_docstring(node) is not None:
+            rows |= set(range(node.body[0].lineno, node.body[0].end_lineno + 1))
+    return rows
+
+
+def bound(tree):
+    """The names that something in the file assigns, with their rows."""
+    for node in ast.walk(tree):
+        if isinstance(node, ast.Name) and not isinstance(node.ctx, ast.Load):
+            yield node.lineno, node.id
+        elif isinstance(node, ast.arg):
+            yield node.lineno, node.arg
+        elif isinstance(node, ast.ExceptHandler) and node.name:
+            yield node.lineno, node.name
+        elif isinstance(node, (ast.MatchAs, ast.MatchStar)) and node.name:
+            yield node.lineno, node.name
+
+
+def module_level(tree):
+    """L3, L15: what stands outside of functions and classes, and that each name is bound once."""
+    seen = set()
+    for at, node in enumerate(tree.body):
+        names = []
+        if isinstance(node, ast.ImportFrom):
+            names = [alias.asname or alias.name for alias in node.names]
+            if any(not isinstance(ahead, (ast.ImportFrom, ast.Expr)) for ahead in tree.body[:at]):
+                yield node.lineno, "L2 an import that does not stand at the top"
+        elif isinstance(node, (ast.FunctionDef, ast.ClassDef)):
+            names = [node.name]
+        elif isinstance(node, ast.Assign) and len(node.targets) == 1 and isinstance(node.targets[0], ast.Name):
+            names = [node.targets[0].id]
+        elif not (at == 0 and isinstance(node, ast.Expr) and isinstance(node.value, ast.Constant)):
+            yield node.lineno, "L3 a statement at module level"
+        for name in names:
+            if name in seen:
+                yield node.lineno, f"L15 {name} is bound twice"
+            seen.add(name)
+
+
+def names(tree):
+    """L8, L12, L15, L17: names."""
+    taken = {name for _, name in bound(tree)}
+    of_file = set()
+    for node in tree.body:
+        if isinstance(node, ast.ImportFrom):
+            of_file |= {alias.asname or alias.name for alias in node.names}
+        elif isinstance(node, ast.ClassDef):
+            of_file.add(node.name)
+    known = taken | of_file | {node.name for node in ast.walk(tree) if isinstance(node, ast.FunctionDef)}
+    for row, name in bound(tree):
+        if name in of_file or hasattr(builtins, name):
+            yield row, f"L15 {name} means something else"
+        if name in UNUSED_NAMES or name.startswith("__"):
+            yield row, f"L12, L17 the name {name}"
+    for node in ast.walk(tree):
+        if isinstance(node, ast.Name) and isinstance(node.ctx, ast.Load):
+            if node.id == "_" or (node.id not in known and node.id not in BUILTINS):
+                yield node.lineno, f"L8 the name {node.id}"
+        if isinstance(node, (ast.FunctionDef, ast.ClassDef)) and node in tree.body and hasattr(builtins, node.name):
+            yield node.lineno, f"L15 {node.name} is a builtin"
+
+
+def imports(tree, package):
+    """L2, L16: imports. The package is a dict from modules to their trees."""
+    for node in ast.walk(tree):
+        if not isinstance(node, ast.ImportFrom):
+            continue
+        for alias in node.names:
+            if node.level or (node.module in LIBRARY and (alias.name not in LIBRARY[node.module] or alias.asname)):
+                yield node.lineno, "L2 this import"
+            elif node.module not in LIBRARY and alias.name not in defined(package.get(node.module)):
+                yield node.lineno, f"L16 {node.module} does not define {alias.name}"
+
+
+def defined(tree):
+    if tree is None:
+        return set()
+    return {node.name for node in tree.body if isinstance(node, (ast.FunctionDef, ast.ClassDef))} | {
+        node.targets[0].id for node in tree.body if isinstance(node, ast.Assign)}
+
+
+def functions(tree):
+    """L4, L5, L10, L28: functions, methods and classes."""
+    methods = {id(row): node for node in ast.walk(tree) if isinstance(node, ast.ClassDef) for row in node.body}
+    for node in ast.walk(tree):
+        if isinstance(node, ast.ClassDef):
+            if node.decorator_list or node.keywords or node not in tree.body:
+                yield node.lineno, "L5 this class"
+            made = [row.name for row in node.body if isinstance(row, ast.FunctionDef) and not setter(row)]
+            if len(made) != len(set(made)):
+                yield node.lineno, "L18 a method is defined twice"
+        if not isinstance(node, ast.FunctionDef):
+            continue
+        if node.end_lineno - node.lineno + 1 > 40:
+            yield node.lineno, "L10 a function has at most 40 lines"
+        plain = [ast.unparse(row) for row in node.decorator_list]
+        if plain and (id(node) not in methods or len(plain) > 1 or not setter(node) and plain[0] not in
+                      ("property", "staticmethod", "classmethod")):
+            yield node.lineno, "L4 this decorator"
+        if node.name.startswith("__") and (node.name not in DOUBLE or id(node) not in methods):
+            yield node.lineno, f"L5 {node.name}"
+        if node.name == "__init__" and any(isinstance(row, ast.Return) for row in ast.walk(node)):
+            yield node.lineno, "L28 __init__ returns nothing"
+        if node.name in ("__len__", "__str__", "__repr__", "__bool__") and not isinstance(node.body[-1], ast.Return):
+            yield node.lineno, "L28 the last statement is a return"
+
+
+def setter(node):
+    return [ast.unparse(row) for row in node.decorator_list] == [f"{node.name}.setter"]
+
+
+def expressions(tree):
+    """L6, L7, L20, L27: statements and expressions."""
+    for node in ast.walk(tree):
+        if isinstance(node, ast.stmt) and not isinstance(node, STATEMENTS):
+            yield node.lineno, f"L6 {type(node).__name__}"
+        if isinstance(node, (ast.BinOp, ast.AugAssign)) and isinstance(node.op, (ast.Div, ast.MatMult)):
+            yield node.lineno, "L7 no / and no @"
+        if isinstance(node, ast.Constant) and isinstance(node.value, (float, complex)):
+            yield node.lineno, "L7 no float"
+        if isinstance(node, (ast.Await, ast.AsyncFor)) or node.__class__.__name__ == "TryStar":
+            yield node.lineno, "L6 this statement"
+        if isinstance(node, ast.AugAssign) and not isinstance(node.value, ast.Constant):
+            yield node.lineno, "L5 only a literal number is added so: a class of the package has __radd__"
+        if isinstance(node, ast.Compare) and any(isinstance(op, (ast.Is, ast.IsNot)) for op in node.ops):
+            if not all(isinstance(side, ast.Constant) for side in node.comparators):
+                yield node.lineno, "L20 is stands before None, True or False"
+        if isinstance(node, ast.BinOp) and isinstance(node.op, ast.Pow):
+            if not (isinstance(node.right, ast.Constant) and 0 <= node.right.value <= 64):
+                yield node.lineno, "L27 an exponent is a literal from 0 to 64"
+
+
+def errors(tree):
+    """L19: raise and except."""
+    for node in ast.walk(tree):
+        if isinstance(node, ast.Raise) and node.exc is not None:
+            if not (isinstance(node.exc, ast.Call) and isinstance(node.exc.func, ast.Name)):
+                yield node.lineno, "L19 raise creates its error on the spot"
+        if isinstance(node, ast.ExceptHandler):
+            named = node.type.elts if isinstance(node.type, ast.Tuple) else [node.type]
+            for what in named:
+                if not isinstance(what, ast.Name) or what.id in (
+                        "Exception", "TypeError", "ArithmeticError", "OverflowError", "RuntimeError",
+                        "NotImplementedError", "AttributeError", "BaseException"):
+                    yield node.lineno, "L19 what is caught"
+
+
+def calls(tree, own):
+    """L5, L7, L22, L25: calls. `own` are the names of all methods of the package."""
+    for node in ast.walk(tree):
+        if not isinstance(node, ast.Call):
+            continue
+        if isinstance(node.func, ast.Attribute) and node.func.attr not in METHODS | own | {"__init__"}:
+            yield node.lineno, f"L25 the method {node.func.attr}"
+        if not isinstance(node.func, ast.Name):
+            continue
+        word = node.func.id
+        if word in BUILTINS and any(key.arg not in KEYWORDS.get(word, ()) for key in node.keywords):
+            yield node.lineno, f"L22 a keyword of {word}"
+        if word in ("any", "all", "min", "max", "sum", "sorted"):
+            if any(isinstance(value, ast.GeneratorExp) for value in node.args):
+                yield node.lineno, f"L7 {word} takes a list: a class of the package has __eq__"
+        if word in ("sorted", "min", "max") and not plainly_ordered(node):
+            yield node.lineno, f"L5 {word} takes what is plainly numbers or strings: Amounts compare otherwise"
+
+
+def plainly_ordered(call):
+    if any(key.arg == "key" and ast.unparse(key.value) in ("len", "int", "str") for key in call.keywords):
+        return True
+    if len(call.args) > 1:
+        return any(plain(value) for value in call.args)
+    value = call.args[0]
+    if isinstance(value, (ast.ListComp, ast.SetComp)):
+        return plain(value.elt)
+    if isinstance(value, (ast.List, ast.Tuple)):
+        return all(plain(part) for part in value.elts)
+    return isinstance(value, ast.Call) and ast.unparse(value.func) in ("set", "range")
+
+
+def plain(value):
+    if isinstance(value, ast.BinOp):
+        return plain(value.left) and plain(value.right)
+    called = isinstance(value, ast.Call) and ast.unparse(value.func) in ("len", "int", "ord", "str", "repr")
+    return called or isinstance(value, (ast.Constant, ast.JoinedStr))
+
+
+def method_names(package):
+    return {row.name for tree in package.values() for node in ast.walk(tree) if isinstance(node, ast.ClassDef)
+            for row in node.body if isinstance(row, ast.FunctionDef)}
+
+
+def faults(text, package):
+    """All faults of a file: a list of tuples (row, what)."""
+    tree = ast.parse(text)
+    own = method_names({**package, "this file": tree})
+    return sorted([*layout(text), *words(text), *module_level(tree), *names(tree), *imports(tree, package),
+                   *functions(tree), *expressions(tree), *errors(tree), *calls(tree, own)])
