@@ -209,3 +209,15 @@ class Amount:
         if str(amount) != text:
             raise InvalidText(1)
         return amount
+
+
+def ascending(amounts):
+    """Amounts of a list in ascending order, each once."""
+    found = []
+    for amount in amounts:
+        at = 0
+        while at < len(found) and found[at] < amount:
+            at = at + 1
+        if at == len(found) or found[at] != amount:
+            found.insert(at, amount)
+    return found

@@ -42,6 +42,16 @@ UNUSED_NAMES = set("""attrgetter breakpoint builtins compile copyright credits d
 UNUSED_WORDS = set("""typing typing_extensions enum Enum IntEnum StrEnum Flag IntFlag Generic Protocol ABC ABCMeta
     namedtuple NamedTuple TypedDict TYPE_CHECKING abstractmethod""".split())
 
+# Without `_`: a doctest that ran before this test leaves that name among the builtins.
+TAKEN = set(dir(builtins)) - {"_"}
+
+MODIFYING = set("append clear extend insert pop remove reverse setdefault update add discard sort".split())
+
+# What may iterate a generator, or something like `zip(..)`, at once.
+AT_ONCE = set("list tuple dict sorted sum min max any all enumerate zip".split())
+
+VIEWS = set("zip enumerate reversed".split())
+
 UNUSED_PARTS = ("dataclass", "overload", "contextmanager", "_wall", "_WallAttr", "(type)", "Meta", "metaclass=")
 
 
@@ -132,7 +142,7 @@ def names(tree):
             of_file.add(node.name)
     known = taken | of_file | {node.name for node in ast.walk(tree) if isinstance(node, ast.FunctionDef)}
     for row, name in bound(tree):
-        if name in of_file or hasattr(builtins, name):
+        if name in of_file or name in TAKEN:
             yield row, f"L15 {name} means something else"
         if name in UNUSED_NAMES or name.startswith("__"):
             yield row, f"L12, L17 the name {name}"
@@ -140,7 +150,7 @@ def names(tree):
         if isinstance(node, ast.Name) and isinstance(node.ctx, ast.Load):
             if node.id == "_" or (node.id not in known and node.id not in BUILTINS):
                 yield node.lineno, f"L8 the name {node.id}"
-        if isinstance(node, (ast.FunctionDef, ast.ClassDef)) and node in tree.body and hasattr(builtins, node.name):
+        if isinstance(node, (ast.FunctionDef, ast.ClassDef)) and node in tree.body and node.name in TAKEN:
             yield node.lineno, f"L15 {node.name} is a builtin"
 
 
@@ -268,6 +278,147 @@ def plain(value):
     return called or isinstance(value, (ast.Constant, ast.JoinedStr))
 
 
+def parents(tree):
+    return {child: node for node in ast.walk(tree) for child in ast.iter_child_nodes(node)}
+
+
+def is_call_of(node, words):
+    return isinstance(node, ast.Call) and isinstance(node.func, ast.Name) and node.func.id in words
+
+
+def generator_names(package):
+    return {node.name for tree in package.values() for node in ast.walk(tree) if isinstance(node, ast.FunctionDef)
+            and any(isinstance(row, (ast.Yield, ast.YieldFrom)) for row in ast.walk(node))}
+
+
+def generators(tree, package):
+    """L23: a generator is iterated at once, beside names and literals only, and is no value."""
+    made = generator_names(package)
+    above = parents(tree)
+    for node in ast.walk(tree):
+        if isinstance(node, ast.Name) and node.id in made:
+            call = above[node]
+            if not (isinstance(call, ast.Call) and call.func is node):
+                yield node.lineno, "L23 a generator is no value"
+            elif not iterated_at_once(call, above):
+                yield node.lineno, "L23 a generator is iterated at once"
+            elif not all(isinstance(row, (ast.Name, ast.Attribute, ast.Constant))
+                         for row in [*call.args, *[key.value for key in call.keywords]]):
+                yield node.lineno, "L23 beside a generator stand names and literals"
+        if isinstance(node, (ast.Try, ast.With)):
+            if any(isinstance(row, (ast.Yield, ast.YieldFrom)) for row in ast.walk(node)):
+                yield node.lineno, "L23 no yield under try and with"
+        if isinstance(node, (ast.Yield, ast.YieldFrom)) and not isinstance(above[node], ast.Expr):
+            yield node.lineno, "L23 yield is a statement of its own"
+
+
+def iterated_at_once(call, above):
+    outer = above[call]
+    if isinstance(outer, (ast.For, ast.comprehension)):
+        return outer.iter is call
+    return isinstance(outer, ast.YieldFrom) or is_call_of(outer, AT_ONCE) and call in outer.args
+
+
+def views(tree):
+    """L23: zip, enumerate, reversed and views of dicts are iterated at once (kept ones are not used here)."""
+    above = parents(tree)
+    for node in ast.walk(tree):
+        view = isinstance(node, ast.Call) and isinstance(node.func, ast.Attribute) and not node.args and (
+            node.func.attr in ("items", "keys", "values"))
+        if (view or is_call_of(node, VIEWS)) and not iterated_at_once(node, above):
+            yield node.lineno, "L23 this is iterated at once"
+
+
+def sets(tree):
+    """L24: where a set may stand (stored ones are not used here)."""
+    above = parents(tree)
+    for node in ast.walk(tree):
+        if isinstance(node, (ast.Set, ast.SetComp)) or is_call_of(node, {"set"}):
+            outer = above[node]
+            if not isinstance(outer, ast.Compare) and not is_call_of(outer, {"sorted", "len"}):
+                yield node.lineno, "L24 a set stands in sorted, in len or in a comparison"
+        elif is_call_of(node, {"frozenset"}):
+            yield node.lineno, "L24 no frozenset"
+
+
+def loops(tree):
+    """L23: what a loop iterates over is not modified in it."""
+    for node in ast.walk(tree):
+        if not isinstance(node, ast.For):
+            continue
+        over = iterated(node.iter)
+        for row in [part for statement in node.body for part in ast.walk(statement)]:
+            if isinstance(row, ast.Call) and isinstance(row.func, ast.Attribute) and row.func.attr in MODIFYING:
+                changed = row.func.value
+            elif isinstance(row, ast.Subscript) and not isinstance(row.ctx, ast.Load):
+                changed = row.value
+            else:
+                continue
+            if ast.unparse(changed) in over:
+                yield row.lineno, "L23 this is modified in its own loop"
+
+
+def iterated(node):
+    """The texts of what is iterated over, also through enumerate, zip, reversed and views."""
+    if is_call_of(node, VIEWS):
+        return {text for value in node.args for text in iterated(value)}
+    if isinstance(node, ast.Call) and isinstance(node.func, ast.Attribute) and node.func.attr in (
+            "items", "keys", "values"):
+        return {ast.unparse(node.func.value)}
+    if isinstance(node, (ast.Name, ast.Attribute, ast.Subscript)):
+        return {ast.unparse(node)}
+    return set()
+
+
+def stars(tree):
+    """L7: behind a star in a call, and beside `**`, stand names, attributes, literals."""
+    for node in ast.walk(tree):
+        if isinstance(node, ast.Call):
+            behind = [row.value for row in node.args if isinstance(row, ast.Starred)]
+            behind += [key.value for key in node.keywords if key.arg is None]
+            if not all(isinstance(row, (ast.Name, ast.Attribute)) for row in behind):
+                yield node.lineno, "L7 behind a star stand names"
+
+
+def classes(tree, package):
+    """L5: operators, iteration and properties."""
+    everything = [node for one in {**package, "this file": tree}.values() for node in ast.walk(one)]
+    plain_methods = {row.name for node in everything if isinstance(node, ast.ClassDef) for row in node.body
+                     if isinstance(row, ast.FunctionDef) and not is_property(row)}
+    attributes = {node.attr for node in everything if isinstance(node, ast.Attribute)
+                  and not isinstance(node.ctx, ast.Load)}
+    for node in tree.body:
+        if not isinstance(node, ast.ClassDef):
+            continue
+        made = {row.name: row for row in node.body if isinstance(row, ast.FunctionDef)}
+        if "__getitem__" in made and "__iter__" not in made:
+            yield node.lineno, "L5 a class with __getitem__ has an __iter__"
+        if "__iter__" in made and not is_plain_iteration(made["__iter__"]):
+            yield node.lineno, "L5 __iter__ has one statement"
+        for name, row in made.items():
+            if is_property(row) and name in plain_methods | METHODS:
+                yield row.lineno, "L5 a property with the name of a method"
+            if name in attributes or is_property(row) and name.startswith("_"):
+                yield row.lineno, "L18 a method with the name of an attribute"
+            if row.decorator_list == [] and (not row.args.args or row.args.args[0].arg != "self"):
+                yield row.lineno, "L4 a method has a plain first parameter"
+    if {"__len__", "__iter__"} <= plain_methods:
+        for node in ast.walk(tree):
+            if isinstance(node, ast.ImportFrom) and {row.name for row in node.names} & {
+                    "product", "combinations", "permutations"}:
+                yield node.lineno, "L2 none of the products beside a class with __iter__ and __len__"
+
+
+def is_property(node):
+    return [ast.unparse(row) for row in node.decorator_list] == ["property"]
+
+
+def is_plain_iteration(node):
+    body = [row for row in node.body if not (isinstance(row, ast.Expr) and isinstance(row.value, ast.Constant))]
+    return len(body) == 1 and isinstance(body[0], (ast.Return, ast.Raise)) and (
+        isinstance(body[0], ast.Raise) or is_call_of(body[0].value, {"iter"}))
+
+
 def method_names(package):
     return {row.name for tree in package.values() for node in ast.walk(tree) if isinstance(node, ast.ClassDef)
             for row in node.body if isinstance(row, ast.FunctionDef)}
@@ -278,4 +429,6 @@ def faults(text, package):
     tree = ast.parse(text)
     own = method_names({**package, "this file": tree})
     return sorted([*layout(text), *words(text), *module_level(tree), *names(tree), *imports(tree, package),
-                   *functions(tree), *expressions(tree), *errors(tree), *calls(tree, own)])
+                   *functions(tree), *expressions(tree), *errors(tree), *calls(tree, own),
+                   *generators(tree, {**package, "this file": tree}), *views(tree), *sets(tree), *loops(tree),
+                   *stars(tree), *classes(tree, package)])

@@ -25,6 +25,21 @@ INTERFACE = {
     ("curves", None): "Curve",
     ("curves", "Curve"): """__init__ __call__ back points corners is_straight conductance turned __add__ __or__ __eq__
         straight""",
+    ("nets", None): "Net",
+    ("nets", "Net"): """__init__ nodes __getitem__ __iter__ names __contains__ __len__ __eq__ neighbours between of
+        __repr__ without joined turned bridges is_bridge""",
+    ("cuts", None): "cuts is_cut ways seen",
+    ("states", None): "State balances drops fed_state held_state fits_fed fits_held curves_of",
+    ("states", "State"): "__init__ flows heights __eq__ moved",
+    ("flows", None): "ranks bad_ring fit_flows is_bad_ring",
+    ("ranges", None): "Stretch cut_sums flow_stretch conductances_for are_conductances_for",
+    ("ranges", "Stretch"): "__init__ low high is_single __contains__ __eq__ __str__ __repr__ plus turned",
+    ("signs", None): """fed_compare held_compare fed_direction held_direction opposite lower_ways are_lower_ways
+        unlike_cuts height_stretch gives""",
+    ("examples", None): "fed_example held_example",
+    ("orders", None): "Order",
+    ("orders", "Order"): """__init__ __iter__ levels __len__ __getitem__ __contains__ __eq__ nodes turned of_heights of
+        __str__ __repr__""",
 }
 
 WRONG = {
@@ -72,6 +87,59 @@ WRONG = {
     "min": "def f(x, y):\n    return min(x, y)",
     "a word": "def typing(x):\n    return x",
     "a name that is not used": "def f(law):\n    return law",
+    "a kept generator": "def f(x):\n    yield x\n\n\ndef g(x):\n    y = f(x)\n    return list(y)",
+    "a generator as a value": "def f(x):\n    yield x\n\n\ndef g():\n    return f",
+    "a generator in another call": "def f(x):\n    yield x\n\n\ndef g(x):\n    return len(f(x))",
+    "a call beside a generator": "def f(x):\n    yield x\n\n\ndef g(x):\n    return list(f(str(x)))",
+    "yield under try": "def f(x):\n    try:\n        yield x\n    except KeyError:\n        return",
+    "yield as a value": "def f(x):\n    y = yield x\n    return y",
+    "a kept view": "def f(x):\n    y = x.items()\n    return list(y)",
+    "a returned zip": "def f(x):\n    return zip(x, x)",
+    "reversed in len": "def f(x):\n    return len(reversed(x))",
+    "a loop over a set": "def f(x):\n    return [str(y) for y in set(x)]",
+    "a returned set": "def f(x):\n    return {x}",
+    "a frozenset": "def f(x):\n    return len(frozenset(x))",
+    "a list that is modified in its loop": "def f(x):\n    for y in x:\n        x.append(y)",
+    "a dict that is modified in its loop": "def f(x):\n    for y, z in x.items():\n        x[z] = y",
+    "a list that is modified behind enumerate": "def f(x):\n    for y, z in enumerate(x):\n        x[y] = z",
+    "a star before a call": "def g(*x):\n    return x\n\n\ndef f(x):\n    return g(*list(x))",
+    "items without iteration": "class A:\n    def __getitem__(self, at):\n        return at",
+    "a long iteration": "class A:\n    def __iter__(self):\n        x = [1]\n        return iter(x)",
+    "a property like a method": """class A:
+    @property
+    def far(self):
+        return 1
+
+
+class B:
+    def far(self):
+        return 1
+""",
+    "a method like an attribute": """class A:
+    def __init__(self):
+        self.far = 1
+
+    def far(self):
+        return 1
+""",
+    "a method without a first parameter": "class A:\n    def f(*rest):\n        return rest",
+    "a product beside an iterated class": """from itertools import product
+
+
+class A:
+    def __init__(self, rows):
+        self._rows = rows
+
+    def __iter__(self):
+        return iter(self._rows)
+
+    def __len__(self):
+        return len(self._rows)
+
+
+def f(x):
+    return list(product(x, x))
+""",
     "a percent sign": "def f():\n    return '%'",
     "an escape": "def f():\n    return '\\r'",
 }
@@ -98,6 +166,36 @@ class Box:
 
     def __len__(self):
         return len(self._rows)
+
+    def __iter__(self):
+        return iter(self._rows)
+
+    def __getitem__(self, at):
+        return self._rows[at]
+
+    @staticmethod
+    def of_rows(*rows):
+        """The box of these rows."""
+        return Box(rows)
+
+
+def numbered(box):
+    """Yields each row with its number."""
+    for at, row in enumerate(box):
+        yield (at, row)
+
+
+def waiting(box):
+    """What is left."""
+    left = [row for _, row in numbered(box)]
+    found = {}
+    while left:
+        last = left.pop()
+        for row in list(found):
+            found[row] = {**found, last: row}
+        found[last] = None
+    rows = list(found)
+    return [*rows, list(numbered(box)), Box.of_rows(*rows), len(set(rows)), {str(row) for row in rows} == {"a"}]
 
 
 def told(box, *, far=False):
