@@ -7,6 +7,7 @@ from surepipes.amounts import Amount
 from surepipes.solving import heights_by, resistance
 from surepipes.sums import cut_towards
 
+# By how much wide pipes are made wider until they are wide enough: little, so that the numbers stay short.
 GROWTH = 100
 
 
@@ -53,7 +54,11 @@ def _level_at(net, conductances, fixed, pipe, other, drops):
 
 
 def levelled(net, fixed, inputs, high, low, u, v):
-    """Conductances by which u is level with v; by `high` it is above v, by `low` it is below v."""
+    """Conductances by which u is level with v; by `high` it is above v, by `low` it is below v.
+
+    One pipe after another gets its conductance of `low`, until u is not above v any more: then it is this pipe by which
+    both can be made level.
+    """
     found = dict(high)
     first = _drop(net, found, fixed, inputs, u, v)
     for pipe in net:

@@ -136,6 +136,13 @@ class AnyValues(unittest.TestCase):
                       [(STRANGE[-2], 1), ("q", 1)], [("p", STRANGE[-2]), ("q", 1)], [STRANGE[-2]] * 2, 1]:
             self.assertIs(is_bad_ring(PAIR, flows, value), False)
 
+    def test_a_way_is_1_or_minus_1(self):
+        same = Net.of(p=("a", "b"), q=("a", "b"))
+        self.assertIs(is_bad_ring(same, {"p": 1, "q": -1}, [("p", 1), ("q", -1)]), True)
+        for way in (-2, -7, 0, 2, 1, True, False, Amount(-1), None):
+            self.assertIs(is_bad_ring(same, {"p": 1, "q": -1}, [("p", 1), ("q", way)]), False)
+            self.assertIs(is_bad_ring(same, {"p": 1, "q": 0}, [("p", 1), ("q", way)]), False)
+
     def test_a_ring_that_meets_a_node_twice(self):
         net = SMALL["two triangles"]
         flows = dict.fromkeys(net, 0)

@@ -173,6 +173,14 @@ class Held(unittest.TestCase):
                       (("b", "d"), ("c", "b", "a")), (("b", "c", "d"), ("c", "b", "a")), (("b", "d", "b"), ("c", "a"))]:
             self.assertIs(are_lower_ways(NET, POLES, "b", "c", value), False)
 
+    def test_lower_ways_lead_to_different_heights(self):
+        ways = (("b", "d"), ("c", "a"))
+        for top, right in ((1, True), (Amount(2, 4), False), (0, False)):
+            poles = {"a": top, "d": Amount(1, 2)}
+            self.assertIs(are_lower_ways(NET, poles, "b", "c", ways), right)
+            self.assertIs(are_lower_ways(NET, poles, "d", "a", (("d",), ("a",))), right)
+            self.assertEqual(lower_ways(NET, poles, "b", "c") is not None, top != Amount(1, 2))
+
     def test_poles_as_ends(self):
         self.assertEqual(lower_ways(NET, POLES, "d", "a"), (("d",), ("a",)))
         self.assertIsNone(lower_ways(NET, POLES, "a", "d"))
