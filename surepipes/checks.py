@@ -3,7 +3,8 @@
 from surepipes.amounts import Amount, amount_of, is_amount
 from surepipes.curves import Curve
 from surepipes.errors import InvalidConductances, InvalidCurves, InvalidDemands, InvalidFlows, InvalidHeights
-from surepipes.errors import InvalidPoles, Unbalanced, UnknownNode, UnknownPipe
+from surepipes.errors import InvalidOrder, InvalidPoles, Unbalanced, UnknownNode, UnknownPipe
+from surepipes.orders import Order
 
 
 def is_node(net, value):
@@ -21,6 +22,17 @@ def check_pipe(net, value):
     """Raises UnknownPipe unless a value is a pipe of the net."""
     if value not in net:
         raise UnknownPipe(value)
+
+
+def is_order_of(net, value):
+    """Whether any value is an Order of exactly the nodes of the net."""
+    return isinstance(value, Order) and value.nodes == net.nodes
+
+
+def check_order(net, value):
+    """Raises InvalidOrder unless a value is an Order of exactly the nodes of the net."""
+    if not is_order_of(net, value):
+        raise InvalidOrder(value)
 
 
 def is_set_of_nodes(net, value):
@@ -51,7 +63,7 @@ def _is_above_0(value):
 
 def amounts_of(table):
     """The dict with sorted keys and with Amounts."""
-    return {name: amount_of(table[name]) for name in sorted([str(name) for name in table])}
+    return {name: amount_of(table[name]) for name in sorted([str(key) for key in table])}
 
 
 def checked_demands(net, demands):

@@ -4,13 +4,13 @@ from surepipes.checks import check_node, checked_poles, is_node, is_set_of_nodes
 from surepipes.errors import UnknownNode
 
 
-def _chosen(nodes, many):
+def chosen(nodes, many):
     """All sorted tuples of so many of these sorted nodes, ascending."""
     if many == 0:
         return [()]
     found = []
     for at in range(len(nodes)):
-        for rest in _chosen(nodes[at + 1:], many - 1):
+        for rest in chosen(nodes[at + 1:], many - 1):
             found.append((nodes[at], *rest))
     return found
 
@@ -41,7 +41,7 @@ def cuts(net, u, v):
     check_node(net, u)
     check_node(net, v)
     for many in range(1, len(net.nodes)):
-        for nodes in _chosen(net.nodes, many):
+        for nodes in chosen(net.nodes, many):
             if _parts(net, u, v, nodes):
                 yield nodes
 

@@ -18,7 +18,7 @@ def _sorted_pipes(pipes):
     for name, ends in pipes.items():
         if not _are_ends(ends):
             raise InvalidPipes(name)
-    return {name: pipes[name] for name in sorted([str(name) for name in pipes])}
+    return {name: pipes[name] for name in sorted([str(key) for key in pipes])}
 
 
 def _sorted_nodes(pipes):

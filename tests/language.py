@@ -52,6 +52,8 @@ AT_ONCE = set("list tuple dict sorted sum min max any all enumerate zip".split()
 
 VIEWS = set("zip enumerate reversed".split())
 
+COMPREHENSIONS = (ast.ListComp, ast.SetComp, ast.DictComp, ast.GeneratorExp)
+
 UNUSED_PARTS = ("dataclass", "overload", "contextmanager", "_wall", "_WallAttr", "(type)", "Meta", "metaclass=")
 
 
@@ -214,8 +216,8 @@ def expressions(tree):
             yield node.lineno, "L7 no float"
         if isinstance(node, (ast.Await, ast.AsyncFor)) or node.__class__.__name__ == "TryStar":
             yield node.lineno, "L6 this statement"
-        if isinstance(node, ast.AugAssign) and not isinstance(node.value, ast.Constant):
-            yield node.lineno, "L5 only a literal number is added so: a class of the package has __radd__"
+        if isinstance(node, ast.AugAssign):
+            yield node.lineno, "L5 nothing is added so: a class of the package has __iadd__"
         if isinstance(node, ast.Compare) and any(isinstance(op, (ast.Is, ast.IsNot)) for op in node.ops):
             if not all(isinstance(side, ast.Constant) for side in node.comparators):
                 yield node.lineno, "L20 is stands before None, True or False"
@@ -384,21 +386,27 @@ def classes(tree, package):
     """L5: operators, iteration and properties."""
     everything = [node for one in {**package, "this file": tree}.values() for node in ast.walk(one)]
     plain_methods = {row.name for node in everything if isinstance(node, ast.ClassDef) for row in node.body
-                     if isinstance(row, ast.FunctionDef) and not is_property(row)}
+                     if isinstance(row, ast.FunctionDef) and not is_property(row) and not setter(row)}
+    properties = {node.name for node in everything if isinstance(node, ast.FunctionDef) and is_property(node)}
     attributes = {node.attr for node in everything if isinstance(node, ast.Attribute)
                   and not isinstance(node.ctx, ast.Load)}
     for node in tree.body:
         if not isinstance(node, ast.ClassDef):
             continue
-        made = {row.name: row for row in node.body if isinstance(row, ast.FunctionDef)}
+        made = {row.name: row for row in node.body if isinstance(row, ast.FunctionDef) and not setter(row)}
         if "__getitem__" in made and "__iter__" not in made:
             yield node.lineno, "L5 a class with __getitem__ has an __iter__"
+        if node.name.startswith("_"):
+            yield node.lineno, "L12 the name of a class begins with a letter"
+        if "__exit__" in made:
+            yield from exits(made)
+        yield from (row for name in made for row in unchanged(made[name]))
         if "__iter__" in made and not is_plain_iteration(made["__iter__"]):
             yield node.lineno, "L5 __iter__ has one statement"
         for name, row in made.items():
             if is_property(row) and name in plain_methods | METHODS:
                 yield row.lineno, "L5 a property with the name of a method"
-            if name in attributes or is_property(row) and name.startswith("_"):
+            if name in attributes or name in properties and name.startswith("_"):
                 yield row.lineno, "L18 a method with the name of an attribute"
             if row.decorator_list == [] and (not row.args.args or row.args.args[0].arg != "self"):
                 yield row.lineno, "L4 a method has a plain first parameter"
@@ -407,6 +415,93 @@ def classes(tree, package):
             if isinstance(node, ast.ImportFrom) and {row.name for row in node.names} & {
                     "product", "combinations", "permutations"}:
                 yield node.lineno, "L2 none of the products beside a class with __iter__ and __len__"
+
+
+def unchanged(node):
+    """L5: an operator and a property change nothing."""
+    if node.name in ("__setitem__", "__init__", "__enter__", "__exit__", "__iadd__", "__call__") or setter(node):
+        return
+    if is_property(node) or node.name in DOUBLE:
+        for row in ast.walk(node):
+            if isinstance(row, (ast.Attribute, ast.Subscript)) and not isinstance(row.ctx, ast.Load):
+                yield row.lineno, "L5 an operator and a property change nothing"
+
+
+def exits(made):
+    """L6: the rows of __exit__, and of the methods that it calls."""
+    waiting = ["__exit__"]
+    for name in waiting:
+        local = {}
+        for row in made[name].body:
+            if isinstance(row, ast.Assign) and is_plain_change(row, local):
+                local |= {target.id: True for target in row.targets if isinstance(target, ast.Name)}
+            elif isinstance(row, ast.Expr) and isinstance(row.value, ast.Call) and (
+                    ast.unparse(row.value.func).removeprefix("self.") in made and not row.value.args):
+                waiting.append(row.value.func.attr)
+            elif not isinstance(row, ast.Pass) and not (isinstance(row, ast.Expr) and isinstance(row.value, ast.Constant)):
+                yield row.lineno, "L6 a row of __exit__"
+        if len(local) > 1:
+            yield made[name].lineno, "L6 one local name in __exit__"
+
+
+def is_plain_change(row, local):
+    """Whether a local name is assigned an attribute of self, or an attribute something plain."""
+    target, value = row.targets[0], row.value
+    far = isinstance(value, ast.Attribute) and isinstance(value.value, ast.Name)
+    if isinstance(target, ast.Name):
+        return far and value.value.id == "self"
+    if not (isinstance(target, ast.Attribute) and isinstance(target.value, ast.Name)):
+        return False
+    return far or isinstance(value, ast.Constant) or isinstance(value, ast.Name) and value.id in local
+
+
+def assigned_properties(tree, package):
+    """L5: a property is assigned only where each one of its name has a setter; here none is assigned."""
+    properties = {node.name for one in {**package, "this file": tree}.values() for node in ast.walk(one)
+                  if isinstance(node, ast.FunctionDef) and is_property(node)}
+    for node in ast.walk(tree):
+        if isinstance(node, ast.Attribute) and not isinstance(node.ctx, ast.Load) and node.attr in properties:
+            yield node.lineno, "L5 a property is assigned"
+
+
+def withs(tree):
+    """L6: `with` stands over a call, and gives a name."""
+    for node in ast.walk(tree):
+        if isinstance(node, ast.With):
+            for item in node.items:
+                if not isinstance(item.context_expr, ast.Call) or not isinstance(item.optional_vars, ast.Name):
+                    yield node.lineno, "L6 with stands over a call, and gives a name"
+
+
+def comprehensions(tree):
+    """L7: a comprehension in another one has no variable that the function assigns elsewhere."""
+    for node in ast.walk(tree):
+        if not isinstance(node, ast.FunctionDef):
+            continue
+        made = [row for row in ast.walk(node) if isinstance(row, COMPREHENSIONS)]
+        inside = {id(name) for row in made for name in variables(row)}
+        elsewhere = {name.id for name in ast.walk(node) if isinstance(name, ast.Name) and id(name) not in inside
+                     and not isinstance(name.ctx, ast.Load)} | {name.arg for name in node.args.args}
+        for row in made:
+            around = [other for other in made if other is not row and any(part is row for part in ast.walk(other))]
+            taken = elsewhere | {name.id for other in around for name in variables(other)}
+            if around and any(name.id in taken for name in variables(row)):
+                yield row.lineno, "L7 a name in a comprehension that stands in another one"
+
+
+def variables(node):
+    return [name for part in node.generators for name in ast.walk(part.target) if isinstance(name, ast.Name)]
+
+
+def handlers(tree):
+    """L19: what stands in a try is a call of a function alone, or what is returned by one."""
+    for node in ast.walk(tree):
+        if isinstance(node, ast.Try):
+            row = node.body[0]
+            if len(node.body) > 1 or not isinstance(row, (ast.Expr, ast.Return)) or not isinstance(row.value, ast.Call):
+                yield node.lineno, "L19 a call stands alone in a try"
+            elif not all(isinstance(value, (ast.Name, ast.Constant)) for value in row.value.args):
+                yield node.lineno, "L19 names stand in the call in a try"
 
 
 def is_property(node):
@@ -431,4 +526,5 @@ def faults(text, package):
     return sorted([*layout(text), *words(text), *module_level(tree), *names(tree), *imports(tree, package),
                    *functions(tree), *expressions(tree), *errors(tree), *calls(tree, own),
                    *generators(tree, {**package, "this file": tree}), *views(tree), *sets(tree), *loops(tree),
-                   *stars(tree), *classes(tree, package)])
+                   *stars(tree), *classes(tree, package), *assigned_properties(tree, package), *withs(tree),
+                   *comprehensions(tree), *handlers(tree)])

@@ -221,3 +221,71 @@ def balances_of(net, flows):
 
 def chance(seed):
     return random.Random(seed)
+
+
+def all_orders(nodes):
+    """The levels of all orders of nodes, each level a sorted tuple."""
+    if not nodes:
+        yield []
+    for many in range(1, len(nodes) + 1):
+        for top in itertools.combinations(sorted(nodes), many):
+            for rest in all_orders([node for node in nodes if node not in top]):
+                yield [top, *rest]
+
+
+def some_levels(rng, nodes):
+    """The levels of an order, made by chance."""
+    places = {node: rng.randrange(rng.choice([2, len(nodes), 2 * len(nodes)])) for node in nodes}
+    return levels_of(places)[::-1]
+
+
+def levels_of(heights):
+    """The levels in which these heights are, from the top down."""
+    return [tuple(sorted(node for node in heights if heights[node] == height))
+            for height in sorted(set(heights.values()), reverse=True)]
+
+
+def places_of(levels):
+    return {node: place for place, level in enumerate(levels) for node in level}
+
+
+def all_sets(nodes):
+    """All sorted tuples of nodes."""
+    for many in range(len(nodes) + 1):
+        yield from itertools.combinations(sorted(nodes), many)
+
+
+def pipes_down(net, levels):
+    """The pipes that lead down, from (higher node, lower node) to their number."""
+    places = places_of(levels)
+    found = [(tail, head) for tail, head in ends_of(net).values() if places[tail] < places[head]]
+    return found + [(head, tail) for tail, head in ends_of(net).values() if places[head] < places[tail]]
+
+
+def held_order_fault(net, poles, levels):
+    """What is wrong about an order for poles, as point 63 tells it."""
+    places = places_of(levels)
+    for p, q in itertools.combinations(sorted(poles), 2):
+        if sign(fraction(poles[p]) - fraction(poles[q])) != sign(places[q] - places[p]):
+            return ("pole", p, q)
+    for node in net.nodes:
+        if node not in poles:
+            near = [places[far] for pair in ends_of(net).values() if node in pair for far in pair if far != node]
+            both = any(place < places[node] for place in near) and any(place > places[node] for place in near)
+            if not both and not all(place == places[node] for place in near):
+                return ("node", node)
+    return None
+
+
+def is_reading_true(levels, reading):
+    u, word, v = reading
+    above = places_of(levels)[v] - places_of(levels)[u]
+    return {">": above > 0, "=": above == 0, ">=": above >= 0}[word]
+
+
+def some_readings(rng, net, many):
+    """Readings for different pairs of nodes, made by chance."""
+    found = {}
+    for _ in range(many):
+        found[rng.choice(net.nodes), rng.choice(net.nodes)] = rng.choice([">", "=", ">=", ">="])
+    return [(u, word, v) for (u, v), word in found.items()]

@@ -40,7 +40,28 @@ INTERFACE = {
     ("orders", None): "Order",
     ("orders", "Order"): """__init__ __iter__ levels __len__ __getitem__ __contains__ __eq__ nodes turned of_heights of
         __str__ __repr__""",
+    ("drains", None): "fed_drains held_drains are_fed_drains are_held_drains block is_block held_fault",
+    ("readings", None): "Readings",
+    ("readings", "Readings"): """__init__ __setitem__ __getitem__ __iadd__ __iter__ rows __contains__ __len__ net poles
+        drop copy tried tried_by an_order closed_list keeps is_closed_list is_possible comes order_with places needed""",
+    ("several", None): """kinds_of find_curves find_bar fit_curves is_bar fit_together compare_drops can_share
+        needed_states""",
+    ("changes", None): """demand_change flow_change pole_change height_change fed_closing held_closing fed_opening
+        held_opening merged""",
+    ("scenes", None): "Scene Fed Held FedScene HeldScene",
+    ("scenes", "Scene"): "net __eq__ __str__",
+    ("scenes", "Fed"): "demands",
+    ("scenes", "Held"): "poles readings",
+    ("scenes", "FedScene"): "__init__ compare direction allows",
+    ("scenes", "HeldScene"): "__init__ compare direction allows",
+    ("texts", None): "read_scene",
+    ("judge", None): "is_claim certificate_of is_certificate",
+    ("board", None): "Board",
+    ("board", "Board"): "__init__ scene demands poles ask undo changes assign trial tried_by",
 }
+
+# What stands directly below the classes of scenes.
+BELOW = {"Scene": [], "Fed": [], "Held": [], "FedScene": ["Scene", "Fed"], "HeldScene": ["Scene", "Held"]}
 
 WRONG = {
     "a long line": "x = 1  # " + "y" * 120,
@@ -140,6 +161,79 @@ class A:
 def f(x):
     return list(product(x, x))
 """,
+    "an added literal": "def f(x):\n    x += 1\n    return x",
+    "a hidden class": "class _A:\n    pass",
+    "an operator that changes something": """class A:
+    def __init__(self):
+        self._rows = []
+
+    def __contains__(self, x):
+        self._rows = [x]
+        return True
+""",
+    "a property that changes something": """class A:
+    def __init__(self):
+        self._rows = []
+
+    @property
+    def first(self):
+        self._rows[0] = 1
+        return 1
+""",
+    "a property that is assigned": """class A:
+    @property
+    def first(self):
+        return 1
+
+
+def f(x):
+    x.first = 1
+""",
+    "a property like a method with a setter": """class A:
+    @property
+    def far(self):
+        return 1
+
+    @far.setter
+    def far(self, value):
+        self._far = value
+
+
+class B:
+    def far(self):
+        return 1
+""",
+    "a call in __exit__": """class A:
+    def __enter__(self):
+        return self
+
+    def __exit__(self, kind, value, trace):
+        self._rows = list(self._before)
+""",
+    "an attribute far away in __exit__": """class A:
+    def __enter__(self):
+        return self
+
+    def __exit__(self, kind, value, trace):
+        self._shut()
+
+    def _shut(self):
+        self._rows = self._kept.rows
+""",
+    "two local names in __exit__": """class A:
+    def __enter__(self):
+        return self
+
+    def __exit__(self, kind, value, trace):
+        one = self._one
+        two = self._two
+        one._rows = two._rows
+""",
+    "with without a name": "def f(x):\n    with x():\n        return 1",
+    "with over a name": "def f(x):\n    with x as y:\n        return y",
+    "a comprehension in another one": "def f(x):\n    for y in x:\n        x = [[y for y in z] for z in x]",
+    "much in a try": "def f(x):\n    try:\n        y = x[0]\n        return f(y)\n    except KeyError:\n        return 1",
+    "a slice in a try": "def f(x):\n    try:\n        return f(x[1:])\n    except KeyError:\n        return 1",
     "a percent sign": "def f():\n    return '%'",
     "an escape": "def f():\n    return '\\r'",
 }
@@ -173,6 +267,32 @@ class Box:
     def __getitem__(self, at):
         return self._rows[at]
 
+    @property
+    def last(self):
+        """The last one."""
+        return self._rows[-1]
+
+    @last.setter
+    def last(self, value):
+        self._rows = [*self._rows, value]
+
+    def __setitem__(self, at, worth):
+        self._rows[at] = worth
+
+    def __enter__(self):
+        self._before = self._rows
+        return self
+
+    def __exit__(self, kind, value, trace):
+        self._shut()
+        box = self._box
+        box._rows = self._before
+
+    def _shut(self):
+        """It ends."""
+        kept = self._kept
+        self._box = kept._box
+
     @staticmethod
     def of_rows(*rows):
         """The box of these rows."""
@@ -202,6 +322,12 @@ def told(box, *, far=False):
     """What is told."""
     if box.first is None:
         raise ValueError("it is\\n" + str(far))
+    with Box(box) as held:
+        held[0] = 1
+    try:
+        return told(held, far=True)
+    except ValueError as error:
+        raise KeyError("far") from error
     kept = sorted([str(row) for row in box.first])
     return max(len(kept), gcd(4, 6)) + len(sorted(set(kept))) + Amount(1).top
 '''
@@ -256,6 +382,11 @@ class Language(unittest.TestCase):
                 body = [node for node in body if isinstance(node, ast.ClassDef) and node.name == holder][0].body
             found = {node.name for node in body if isinstance(node, (ast.FunctionDef, ast.ClassDef))}
             self.assertLessEqual(set(wanted.split()), found)
+
+    def test_what_stands_below_scenes(self):
+        found = {node.name: [base.id for base in node.bases] for node in PACKAGE["surepipes.scenes"].body
+                 if isinstance(node, ast.ClassDef)}
+        self.assertEqual(found, BELOW)
 
 
 if __name__ == "__main__":

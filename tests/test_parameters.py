@@ -50,6 +50,9 @@ FUNCTIONS = {
     examples.fed_example: "net demands u word v", examples.held_example: "net poles u word v",
 }
 
+# Functions that are for the package only.
+HELPERS = ("is_way", "chosen")
+
 METHODS = {
     (Net, "__init__"): "pipes", (Net, "neighbours"): "node", (Net, "between"): "u v", (Net, "without"): "pipe",
     (Net, "joined"): "name tail head", (Net, "is_bridge"): "pipe", (State, "__init__"): "flows heights",
@@ -186,7 +189,7 @@ class Names(unittest.TestCase):
     def test_all_functions_of_the_modules_are_tested_here(self):
         for module in (cuts, states, flows, ranges, signs, examples):
             own = {what for name, what in vars(module).items() if inspect.isfunction(what)
-                   and what.__module__ == module.__name__ and not name.startswith("_") and name != "is_way"}
+                   and what.__module__ == module.__name__ and not name.startswith("_") and name not in HELPERS}
             self.assertLessEqual(own, set(FUNCTIONS))
 
 
