@@ -289,3 +289,26 @@ def some_readings(rng, net, many):
     for _ in range(many):
         found[rng.choice(net.nodes), rng.choice(net.nodes)] = rng.choice([">", "=", ">=", ">="])
     return [(u, word, v) for (u, v), word in found.items()]
+
+
+def answer_of(above, below):
+    return {(True, True): "open", (True, False): "above", (False, True): "below", (False, False): "level"}[above, below]
+
+
+def plain_fed(net, demands, u, v):
+    """The answer out of all sets of nodes."""
+    sums = [sum(fraction(demands[node]) for node in cut) for cut in all_cuts(net, u, v)]
+    return answer_of(any(value > 0 for value in sums), any(value < 0 for value in sums))
+
+
+def plain_lower_ways(net, poles, u, v):
+    """All lower ways for (u, v), out of all pairs of ways."""
+    ones = [way for pole in poles for way in all_ways(net, u, pole) if not set(way[:-1]) & set(poles)]
+    others = [way for pole in poles for way in all_ways(net, v, pole) if not set(way[:-1]) & set(poles)]
+    return {(one, other) for one in ones for other in others
+            if not set(one) & set(other) and fraction(poles[one[-1]]) < fraction(poles[other[-1]])}
+
+
+def plain_held(net, poles, u, v):
+    """The answer out of all pairs of ways."""
+    return answer_of(bool(plain_lower_ways(net, poles, v, u)), bool(plain_lower_ways(net, poles, u, v)))

@@ -1,4 +1,4 @@
-"""The examples of DOC.md, word for word; of stage 6 those parts that need no more than orders."""
+"""The examples of DOC.md, word for word."""
 
 import doctest
 import unittest
@@ -55,20 +55,65 @@ STAGE_5 = """
 """
 
 STAGE_6 = """
+>>> from surepipes.drains import block, fed_drains, held_fault
 >>> from surepipes.orders import Order
 >>> order = Order([["a"], ["c"], ["b"], ["d"]])
->>> [str(order), order["b"]]
-['a > c > b > d', 2]
+>>> [str(order), order["b"], fed_drains(net, demands, order) is None, block(net, demands, order.turned())]
+['a > c > b > d', 2, False, ('d',)]
 >>> list(Order.of(["b", "a"], ["c"]))
 [('a', 'b'), ('c',)]
+>>> held_fault(net, poles, Order.of(["a", "b"], ["c"], ["d"]))
+('node', 'b')
 """
+
+STAGE_7 = """
+>>> from surepipes.readings import Readings
+>>> readings = Readings(net, poles)
+>>> readings["b", "c"] = ">="
+>>> [readings.comes("b", "c"), readings.comes("a", "b"), str(readings.places("b")[0][1])]
+[('above', 'level'), ('above',), '9']
+>>> list(readings)
+[('b', '>=', 'c')]
+>>> readings["c", "b"] = ">"
+>>> [readings.is_possible(), len(readings), readings["b", "c"], readings.drop("c", "b")]
+[False, 2, '>=', '>']
+"""
+
+STAGE_8 = """
+>>> from surepipes.several import compare_drops, fit_together, is_bar
+>>> pair = Net.of(p=("a", "b"), q=("a", "b"))
+>>> first, second = {"p": 1, "q": 3}, {"p": 2, "q": 3}
+>>> [fit_together(pair, [first]), fit_together(pair, [first, second]), fit_together(pair, [{"p": 1, "q": 3}], {"p": "k", "q": "k"})]
+[True, False, False]
+>>> [is_bar(pair, [first, second], None, [{"p": -1, "q": 1}, {"p": 1, "q": -1}]), compare_drops(pair, [first], (0, "a", "b"), (0, "b", "a"))]
+[True, 'above']
+"""
+
+STAGE_9 = """
+>>> from surepipes.board import Board
+>>> from surepipes.changes import fed_closing
+>>> from surepipes.scenes import FedScene, HeldScene
+>>> board = Board(FedScene(net, demands))
+>>> [board.ask("compare b c"), board.ask("direction ab"), board.ask("range bc"), board.ask("close ab c d"), fed_closing(net, demands, "ab", "c", "d")]
+['open', 'along', '-2 2', 'greater', 'greater']
+>>> board.poles = {"a": 9, "d": 0}
+>>> [board.ask("possible a > b,c > d"), board.ask("range b"), board.changes, board.undo(), board.ask("compare a b")]
+['yes', '0 9', 1, None, 'above']
+>>> board.scene = HeldScene(net, poles)
+>>> board.demands = demands
+>>> [board.changes, board.ask("compare b c"), board.undo(), board.ask("range b"), board.changes]
+[2, 'open', None, '0 9', 1]
+"""
+
+
+STAGES = (STAGE_1, STAGE_2, STAGE_3, STAGE_4, STAGE_5, STAGE_6, STAGE_7, STAGE_8, STAGE_9)
 
 
 class Examples(unittest.TestCase):
     def test_one_after_another(self):
         # A later example uses names of an earlier one.
         names = {}
-        for at, text in enumerate((STAGE_1, STAGE_2, STAGE_3, STAGE_4, STAGE_5, STAGE_6), 1):
+        for at, text in enumerate(STAGES, 1):
             test = doctest.DocTestParser().get_doctest(text, names, f"stage {at}", None, 0)
             said = []
             result = doctest.DocTestRunner(verbose=False).run(test, out=said.append, clear_globs=False)

@@ -5,13 +5,16 @@ import inspect
 import itertools
 import unittest
 
-from plain import SMALL, STRANGE
-from surepipes import cuts, errors, examples, flows, ranges, signs, states
+from plain import SMALL, STRANGE, Hostile
+from surepipes import changes, cuts, drains, errors, examples, flows, judge, ranges, several, signs, states, texts
 from surepipes.amounts import Amount
+from surepipes.board import Board
 from surepipes.curves import Curve
 from surepipes.nets import Net
 from surepipes.orders import Order
 from surepipes.ranges import Stretch
+from surepipes.readings import Readings
+from surepipes.scenes import FedScene, HeldScene, Scene
 from surepipes.states import State
 
 NET = SMALL["bridged"]
@@ -30,7 +33,18 @@ RIGHT = {
     "state": State({"ab": 1, "ac": 1, "bc": 0, "bd": 1, "cd": 1}, {"a": 2, "b": 1, "c": 1, "d": 0}),
     "pipe": "bc", "u": "b", "v": "c", "node": "b", "pole": "a", "amount": Amount(1, 3), "word": "level",
     "avoid": ["a"], "value": None, "answer": "above",
+    "order": Order([["a"], ["c"], ["b"], ["d"]]),
+    "states": [{"cd": 1, "ab": 1, "ac": 1, "bc": 0, "bd": Amount(1)}, dict.fromkeys(NET, 0)],
+    "kinds": {"cd": "k", "ab": "l", "ac": "k", "bc": "m", "bd": "l"}, "one": "k", "other": "l",
+    "first": (0, "a", "b"), "second": (1, "c", "d"),
+    "before": {"d": -2, "b": 0, "a": Amount(2), "c": 0}, "after": {"d": -2, "b": 1, "a": 1, "c": 0},
+    "held_before": {"d": 0, "a": 9}, "held_after": {"d": Amount(1, 2), "a": 7},
+    "closed": "ab", "tail": "a", "head": "d", "text": "pipe p a b\nheld\npole a 1\nreading a > b\n",
+    "claim": ("order", FedScene(NET, {"a": 2, "b": 0, "c": 0, "d": -2}), Order([["a"], ["c"], ["b"], ["d"]])),
 }
+
+# What parameters are called, where this is not the name of their kind.
+CALLED = {"pole": "node", "held_before": "before", "held_after": "after", "closed": "pipe"}
 
 # Each function with the kinds of its parameters; a parameter has the name of its kind but for poles called node.
 FUNCTIONS = {
@@ -48,7 +62,22 @@ FUNCTIONS = {
     signs.are_lower_ways: "net poles u v value", signs.unlike_cuts: "net demands u v",
     signs.height_stretch: "net poles node", signs.gives: "net poles pole",
     examples.fed_example: "net demands u word v", examples.held_example: "net poles u word v",
+    drains.fed_drains: "net demands order", drains.held_drains: "net poles order",
+    drains.are_fed_drains: "net demands order value", drains.are_held_drains: "net poles order value",
+    drains.block: "net demands order", drains.is_block: "net demands order value", drains.held_fault: "net poles order",
+    several.kinds_of: "net kinds", several.find_curves: "net states kinds", several.find_bar: "net states kinds",
+    several.fit_curves: "net states kinds value", several.is_bar: "net states kinds value",
+    several.fit_together: "net states kinds", several.compare_drops: "net states first second kinds",
+    several.can_share: "net states one other kinds", several.needed_states: "net states kinds",
+    changes.demand_change: "net before after u v", changes.flow_change: "net before after pipe",
+    changes.pole_change: "net held_before held_after u v", changes.height_change: "net held_before held_after node",
+    changes.fed_closing: "net demands closed u v", changes.held_closing: "net poles closed u v",
+    changes.fed_opening: "net demands tail head u v", changes.held_opening: "net poles tail head u v",
+    changes.merged: "net poles", texts.read_scene: "text",
+    judge.is_claim: "value", judge.certificate_of: "claim", judge.is_certificate: "claim value",
 }
+
+MODULES = (cuts, states, flows, ranges, signs, examples, drains, several, changes, texts, judge)
 
 # Functions that are for the package only.
 HELPERS = ("is_way", "chosen")
@@ -57,6 +86,15 @@ METHODS = {
     (Net, "__init__"): "pipes", (Net, "neighbours"): "node", (Net, "between"): "u v", (Net, "without"): "pipe",
     (Net, "joined"): "name tail head", (Net, "is_bridge"): "pipe", (State, "__init__"): "flows heights",
     (State, "moved"): "by", (Stretch, "__init__"): "low high", (Stretch, "plus"): "other", (Order, "__init__"): "levels",
+    (Readings, "__init__"): "net poles", (Readings, "drop"): "u v", (Readings, "copy"): "", (Readings, "rows"): "",
+    (Readings, "tried_by"): "rows deed", (Readings, "an_order"): "", (Readings, "closed_list"): "",
+    (Readings, "keeps"): "value", (Readings, "is_closed_list"): "value", (Readings, "is_possible"): "",
+    (Readings, "comes"): "u v", (Readings, "order_with"): "u answer v", (Readings, "places"): "node",
+    (Readings, "needed"): "", (FedScene, "__init__"): "net demands", (HeldScene, "__init__"): "net poles rows",
+    (FedScene, "compare"): "u v", (FedScene, "direction"): "pipe", (FedScene, "allows"): "order",
+    (HeldScene, "compare"): "u v", (HeldScene, "direction"): "pipe", (HeldScene, "allows"): "order",
+    (Board, "__init__"): "scene", (Board, "ask"): "line", (Board, "undo"): "", (Board, "assign"): "part value",
+    (Board, "trial"): "", (Board, "tried_by"): "deed",
     (Net, "names"): "", (Net, "bridges"): "", (Stretch, "turned"): "", (Order, "levels"): "", (Order, "turned"): "",
 }
 
@@ -109,6 +147,19 @@ def unbalanced():
     return [(value, errors.Unbalanced, "total", total) for value, total in rows]
 
 
+def wrong_states():
+    state = RIGHT["states"][0]
+    rows = [(value, None) for value in [*STRANGE, [], (), state, [state] * 5, iter([state]), 1, "ab", {0: state}]]
+    for wrong in [*STRANGE, {}, [], {"ab": 1}, {**state, "zz": 1}, {**state, "ab": None}, {**state, "ab": Hostile()}, 1]:
+        rows += [([wrong], 0), ([state, wrong, None], 1), ((state, state, state, wrong), 3)]
+    return [(value, errors.InvalidStates, "position", position) for value, position in rows]
+
+
+def of_kinds():
+    rows = of_dicts("kinds", errors.InvalidKinds, "pipe", [*STRANGE, 1, "K", "longnames", ["k"], ("k",), {}])
+    return [row for row in rows if row[0] is not None]
+
+
 def of_values(error, wrong, attribute="value"):
     return [(value, error, attribute, value) for value in wrong]
 
@@ -129,7 +180,18 @@ WRONG = {
     "answer": of_values(errors.InvalidWord, [*STRANGE, "along", "none", ">", 1, ["above"], ("above",), {}]),
     "avoid": of_values(errors.UnknownNode, [*STRANGE, "a", 1, {"a": 1}, range(1)]) + [
         ([*ahead, value, "zz"], errors.UnknownNode, "value", value) for value in NO_NODES for ahead in ([], ["a", "d"])],
+    "order": of_values(errors.InvalidOrder, [*STRANGE, "a > b,c > d", [["a"], ["b", "c"], ["d"]], Order([["a"], ["b"]]),
+                                             Order([["a", "b", "c", "d", "e"]]), 1, {}]),
+    "states": wrong_states(), "kinds": of_kinds(),
+    "first": of_values(errors.InvalidPlace, [*STRANGE, (), (0, "a"), (2, "a", "b"), (True, "a", "b"), [0, "a", "b"], 0]),
+    "second": of_values(errors.InvalidPlace, [*STRANGE, (), (0, "a", "z"), (-1, "a", "b"), (0, "a", "b", "c"), "0ab"]),
+    "held_before": wrong_poles(), "held_after": of_dicts("held_after", errors.InvalidPoles, "node", NO_AMOUNTS),
+    "tail": of_values(errors.UnknownNode, NO_NODES), "head": of_values(errors.UnknownNode, NO_NODES),
+    "claim": of_values(errors.InvalidClaim, [*STRANGE, (), ("order",), ("order", NET, RIGHT["order"]), 1, ["order"]]),
+    "text": [(value, errors.InvalidText, "line", None) for value in STRANGE if not isinstance(value, str)],
 }
+for before, after in (("demands", "before"), ("demands", "after"), ("pipe", "closed")):
+    WRONG[after] = WRONG[before]
 
 
 def called(function, arguments):
@@ -146,6 +208,8 @@ def shown(value):
         return [(key, shown(part)) for key, part in value.items()]
     if isinstance(value, (list, tuple)):
         return [type(value).__name__, *[shown(part) for part in value]]
+    if isinstance(value, Scene):
+        return str(value)
     if isinstance(value, State):
         return [shown(value.flows), shown(value.heights)]
     if isinstance(value, Curve):
@@ -172,7 +236,7 @@ def spoil(value):
 class Names(unittest.TestCase):
     def test_of_functions(self):
         for function, kinds in FUNCTIONS.items():
-            wanted = ["node" if kind == "pole" else kind for kind in kinds.split()]
+            wanted = [CALLED.get(kind, kind) for kind in kinds.split()]
             self.assertEqual(list(inspect.signature(function).parameters), wanted, function.__name__)
 
     def test_of_methods(self):
@@ -182,12 +246,13 @@ class Names(unittest.TestCase):
         self.assertEqual(list(inspect.signature(Order.of_heights).parameters), ["heights"])
         told = [row.kind for row in inspect.signature(Net.of).parameters.values()]
         self.assertEqual(told, [inspect.Parameter.VAR_KEYWORD])
-        for function in (Net({"p": ("a", "b")}).turned, Order.of):
+        self.assertEqual(list(inspect.signature(several.find_bar).parameters.values())[-1].default, None)
+        for function in (Net({"p": ("a", "b")}).turned, Order.of, Readings(NET, {"a": 1}).tried):
             told = [row.kind for row in inspect.signature(function).parameters.values()]
             self.assertEqual(told, [inspect.Parameter.VAR_POSITIONAL])
 
     def test_all_functions_of_the_modules_are_tested_here(self):
-        for module in (cuts, states, flows, ranges, signs, examples):
+        for module in MODULES:
             own = {what for name, what in vars(module).items() if inspect.isfunction(what)
                    and what.__module__ == module.__name__ and not name.startswith("_") and name not in HELPERS}
             self.assertLessEqual(own, set(FUNCTIONS))

@@ -3,8 +3,9 @@
 import itertools
 import unittest
 
-from plain import (GREAT, SMALL, STRANGE, all_cuts, all_tuples, all_ways, balances_of, chance, ends_of, fed_heights,
-                   flow_of, fraction, held_heights, sign, some_conductances, some_demands, some_net, some_poles)
+from plain import (GREAT, SMALL, STRANGE, all_cuts, all_tuples, all_ways, answer_of, balances_of, chance, ends_of,
+                   fed_heights, flow_of, fraction, held_heights, plain_fed, plain_lower_ways, sign, some_conductances,
+                   some_demands, some_net, some_poles)
 from surepipes.amounts import Amount
 from surepipes.errors import InvalidPoles, InvalidWord, UnknownPole
 from surepipes.nets import Net
@@ -19,24 +20,6 @@ DEMANDS = {"a": 2, "b": 0, "c": 0, "d": -2}
 POLES = {"a": 9, "d": 0}
 DIRECTIONS = {"above": "along", "level": "none", "below": "against", "open": "open"}
 WORDS = {1: "above", 0: "level", -1: "below"}
-
-
-def answer_of(above, below):
-    return {(True, True): "open", (True, False): "above", (False, True): "below", (False, False): "level"}[above, below]
-
-
-def plain_fed(net, demands, u, v):
-    """The answer out of all sets of nodes."""
-    sums = [sum(fraction(demands[node]) for node in cut) for cut in all_cuts(net, u, v)]
-    return answer_of(any(value > 0 for value in sums), any(value < 0 for value in sums))
-
-
-def plain_lower_ways(net, poles, u, v):
-    """All lower ways for (u, v), out of all pairs of ways."""
-    ones = [way for pole in poles for way in all_ways(net, u, pole) if not set(way[:-1]) & set(poles)]
-    others = [way for pole in poles for way in all_ways(net, v, pole) if not set(way[:-1]) & set(poles)]
-    return {(one, other) for one in ones for other in others
-            if not set(one) & set(other) and fraction(poles[one[-1]]) < fraction(poles[other[-1]])}
 
 
 def fed_cases(many):
