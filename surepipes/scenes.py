@@ -25,8 +25,9 @@ class Scene:
         return isinstance(other, Scene) and str(self) == str(other)
 
     def __str__(self):
-        pipes = [f"pipe {pipe} {self._net[pipe][0]} {self._net[pipe][1]}" for pipe in self._net]
-        return "".join([f"{line}\n" for line in [*pipes, *self._told()]])
+        rows = [(pipe, *self._net[pipe]) for pipe in self._net]
+        lines = [*[f"pipe {pipe} {tail} {head}" for pipe, tail, head in rows], *self._told()]
+        return "".join([f"{line}\n" for line in lines])
 
 
 class Fed:

@@ -143,9 +143,7 @@ def is_bar(net, states, kinds, value):
 
 
 def _fit(net, flows, table):
-    """Whether states fit together; none do."""
-    if not flows:
-        return True
+    """Whether states fit together, which may be none."""
     return _found_growths(net, flows, table)[1] is not None
 
 

@@ -46,6 +46,18 @@ TRUE = {
                  ({"p": Curve([(1, 6)]), "q": Curve.straight(Amount(1, 2))}, [{"a": 6, "b": 0}])),
     "not together": (("not together", PAIR, [FIRST, SECOND], None), [{"p": -1, "q": 1}, {"p": 1, "q": -1}]),
 }
+# Other true claims of the same kinds, with certificates.
+OTHERS = [
+    (("can", HELD, "b", ">", "c"), ORDER), (("can", HELD, "b", "=", "c"), Order.of(["a"], ["b", "c"], ["d"])),
+    (("can", HELD, "c", "<", "b"), ORDER), (("can", FED, "b", "=", "b"), EVEN),
+    (("cannot", BARRED, "a", "=", "b"), [()]), (("cannot", HELD, "b", "<", "c"), [(), ("a",), ("a", "d")]),
+    (("order", HELD, ORDER), {"ab": 2, "ac": 1, "bc": Amount(1, 2), "bd": Amount(3, 2), "cd": Amount(3, 2)}),
+    (("no order", FED, Order.of(["a", "b", "c", "d"])), ("a",)),
+    (("together", PAIR, [{"p": 1, "q": 1}], {"p": "k", "q": "k"}), ({"k": Curve.straight(3)}, [{"a": Amount(1, 3), "b": 0}])),
+    (("not together", PAIR, [FIRST], {"p": "k", "q": "k"}), [{"p": -1, "q": 1}]),
+    (("amount", NET, DEMANDS, "bc", 0), EVEN), (("flows", NET, dict.fromkeys(NET, 0)), dict.fromkeys("abcd", 5)),
+]
+
 UNTRUE = {
     "flows": ("flows", NET, RING), "no flows": ("no flows", NET, FLOWS), "amount": ("amount", NET, DEMANDS, "ab", 2),
     "can": ("can", FED, "b", ">", "a"), "cannot": ("cannot", HELD, "b", ">", "c"), "order": ("order", FED, ORDER.turned()),
@@ -61,7 +73,7 @@ class Claims(unittest.TestCase):
         self.assertEqual((tuple(TRUE), tuple(UNTRUE)), (KINDS, KINDS))
 
     def test_true_ones(self):
-        for claim, right in TRUE.values():
+        for claim, right in [*TRUE.values(), *OTHERS]:
             self.assertIs(is_claim(value=claim), True)
             self.assertIs(is_certificate(claim=claim, value=right), True)
             found = certificate_of(claim=claim)
@@ -81,14 +93,16 @@ class Claims(unittest.TestCase):
                     self.assertIs(is_certificate(claim, right), False, (word, other))
 
     def test_any_value_as_a_certificate(self):
-        for claim, right in TRUE.values():
+        for claim, right in [*TRUE.values(), *OTHERS]:
             values = [*STRANGE, 0, 1, (), [], {}, [()], (None,), [None], {None: None}, "x", ORDER, NET, FED, (right,), [right]]
             if isinstance(right, dict):
                 values += [dict(list(right.items())[1:]), {**right, "zz": 1}, list(right.items()), {**right, list(right)[0]: None},
                            {**right, list(right)[0]: Hostile()}, {**right, list(right)[0]: True}]
+            elif isinstance(right, Order):
+                values += [right.levels(), str(right), right.turned(), Order.of(["a"], ["b"], ["c"]), Order([["a", "b", "c", "d"]])]
             else:
                 values += [right[:-1], [*right, None], list(right)[1:]]
-            for value in values:
+            for value in [value for value in values if type(value) is not type(right) or value != right]:
                 self.assertIs(is_certificate(claim, value), False, (claim, type(value)))
 
     def test_no_claims(self):
