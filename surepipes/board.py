@@ -109,7 +109,8 @@ class Board:
 
     def _change(self, scene):
         old, past = self._now
-        self._now = (scene, [*past, old][-MOST_CHANGES:])
+        kept = [*past, old]
+        self._now = (scene, kept[-MOST_CHANGES:])
 
     def assign(self, part, value):
         """The same as assigning to the property with this name."""

@@ -61,6 +61,10 @@ def _taken(amounts, steps):
     return [amounts[pipe] for pipe, more in steps if more < 0]
 
 
+def _least(amounts):
+    return ascending(amounts)[0]
+
+
 def _amounts_down(net, demands, falls):
     """Amounts of at least 0 that lead down the pipes so that the balances are the demands; None if there are none.
 
@@ -78,7 +82,8 @@ def _amounts_down(net, demands, falls):
         if path is None:
             return None
         goal, steps = path
-        many = ascending([left[start], -left[goal], *_taken(amounts, steps)])[0]
+        taken = _taken(amounts, steps)
+        many = _least([left[start], -left[goal], *taken])
         amounts = _led(amounts, steps, many)
         left = {**left, start: left[start] - many, goal: left[goal] + many}
 
@@ -95,8 +100,9 @@ def _amounts_above_0(falls, amounts):
             path = _path(falls, found, low, [high])
             if path is None:
                 return None
-            ring = [(pipe, 1), *path[1]]
-            found = _led(found, ring, ascending(_taken(found, ring))[0].over(2))
+            _, back = path
+            ring = [(pipe, 1), *back]
+            found = _led(found, ring, _least(_taken(found, ring)).over(2))
     return found
 
 
@@ -124,9 +130,9 @@ def _pipes_to_pole(falls, heights, node, near, far):
     found = []
     last = node
     while last not in heights:
-        fall = [row for row in falls if row[near] == last][0]
-        found.append(fall[PIPE])
-        last = fall[far]
+        falls_on = [fall for fall in falls if fall[near] == last]
+        found.append(falls_on[0][PIPE])
+        last = falls_on[0][far]
     return found
 
 

@@ -32,6 +32,13 @@ def _flows_of(net, states, kinds, kind):
     return ascending([flow for flow in found if flow.sign != 0])
 
 
+def is_up_to(end, flow):
+    """Whether a flow that is not 0 lies between 0 and another one, or is it."""
+    if end.sign != flow.sign:
+        return False
+    return end <= flow if end.sign > 0 else flow <= end
+
+
 def worth(row, numbers):
     """The sum that a row tells, if these are the growths."""
     return sum([many * number for many, number in zip(row, numbers)])
@@ -55,8 +62,7 @@ class Growths:
 
     def _row_at(self, kind, flow):
         """The row of the drop that a kind has for a flow."""
-        return [end.sign if other == kind and end.sign == flow.sign and abs(end) <= abs(flow) else 0
-                for other, end in self._ends]
+        return [end.sign if other == kind and is_up_to(end, flow) else 0 for other, end in self._ends]
 
     def row_along(self, state, parts):
         """The row of the drops of pipes in a state, each as often as a dict tells."""

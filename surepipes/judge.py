@@ -45,7 +45,8 @@ def _one_more(parts):
 def _steps(parts):
     """The steps that are allowed with one reading more."""
     scene = parts[0]
-    return Steps(scene.net, scene.poles, [*scene.readings, _one_more(parts)])
+    rows = scene.readings
+    return Steps(scene.net, scene.poles, [*rows, _one_more(parts)])
 
 
 def _flows(parts):

@@ -29,12 +29,14 @@ class Table:
         self._turns = [-1 if sum(row) > 0 else 1 for row in rows]
         self._rows = []
         for at, row in enumerate(rows):
+            turned = [number * self._turns[at] for number in row]
             slacks = [1 if other == at else 0 for other in range(len(rows))]
-            turn = self._turns[at]
-            self._rows.append([*[number * turn for number in row], *slacks, -sum(row) * turn])
+            self._rows.append([*turned, *slacks, -sum(turned)])
         self._base = [many + at for at in range(len(rows))]
         self._bottom = 1
-        self._goal = [*[-self._sum_in(column) for column in range(many)], *[0 for _ in rows], -self._sum_in(-1)]
+        goals = [-self._sum_in(column) for column in range(many)]
+        slacks = [0 for _ in rows]
+        self._goal = [*goals, *slacks, -self._sum_in(-1)]
 
     def _sum_in(self, column):
         return sum([row[column] for row in self._rows])

@@ -208,14 +208,20 @@ class Readings:
         check_node(self._net, node)
         self._check_possible()
         heights = ascending([self._poles[pole] for pole in self._poles])[::-1]
-        at = [[pole for pole in self._poles if self._poles[pole] == height][0] for height in heights]
         found = []
         for position, height in enumerate(heights):
-            if self._come((node, "=", at[position])):
+            pole = self._pole_at(height)
+            if self._come((node, "=", pole)):
                 found.append(("at", height))
-            if position + 1 < len(heights) and self._come((at[position], ">", node), (node, ">", at[position + 1])):
-                found.append(("between", height, heights[position + 1]))
+            for low in heights[position + 1:position + 2]:
+                if self._come((pole, ">", node), (node, ">", self._pole_at(low))):
+                    found.append(("between", height, low))
         return found
+
+    def _pole_at(self, height):
+        """The first pole that has this height."""
+        poles = [pole for pole in self._poles if self._poles[pole] == height]
+        return poles[0]
 
     def needed(self):
         """Readings of these that are barred, and possible without any one of them; None if these are possible."""

@@ -17,6 +17,10 @@ class Scene:
         """The net."""
         return self._net
 
+    def _pipe_line(self, pipe):
+        tail, head = self._net[pipe]
+        return f"pipe {pipe} {tail} {head}"
+
     def _told(self):
         """The lines of the text behind those of the pipes."""
         return []
@@ -25,9 +29,9 @@ class Scene:
         return isinstance(other, Scene) and str(self) == str(other)
 
     def __str__(self):
-        rows = [(pipe, *self._net[pipe]) for pipe in self._net]
-        lines = [*[f"pipe {pipe} {tail} {head}" for pipe, tail, head in rows], *self._told()]
-        return "".join([f"{line}\n" for line in lines])
+        lines = [self._pipe_line(pipe) for pipe in self._net]
+        told = self._told()
+        return "".join([f"{line}\n" for line in [*lines, *told]])
 
 
 class Fed:
@@ -68,8 +72,8 @@ class FedScene(Scene, Fed):
         Fed.__init__(self, checked_demands(net, demands))
 
     def _told(self):
-        rows = [(node, demand) for node, demand in self._demands.items() if demand.sign != 0]
-        return ["fed", *[f"demand {node} {demand}" for node, demand in rows]]
+        lines = [f"demand {node} {demand}" for node, demand in self._demands.items() if demand.sign != 0]
+        return ["fed", *lines]
 
     def compare(self, u, v):
         """The answer about two nodes."""
@@ -94,7 +98,8 @@ class HeldScene(Scene, Held):
 
     def _told(self):
         poles = [f"pole {pole} {height}" for pole, height in self._poles.items()]
-        return ["held", *poles, *[f"reading {u} {word} {v}" for u, word, v in self._rows]]
+        readings = [f"reading {u} {word} {v}" for u, word, v in self._rows]
+        return ["held", *poles, *readings]
 
     def compare(self, u, v):
         """The answer about two nodes; with readings the tuple of what comes."""

@@ -4,7 +4,7 @@ from surepipes.amounts import is_integer, is_name
 from surepipes.checks import amounts_of, has_keys, is_node, is_table
 from surepipes.curves import Curve
 from surepipes.errors import Barred, InvalidKinds, InvalidPlace, InvalidStates, UnknownKind
-from surepipes.growths import Growths, worth
+from surepipes.growths import Growths, is_up_to, worth
 from surepipes.positive import solved
 from surepipes.states import balances, drops
 
@@ -122,7 +122,7 @@ def _sums_outwards(flows, table, kind, value):
     found = []
     for end, _ in parts:
         if end.sign != 0:
-            far = [number for flow, number in parts if flow.sign == end.sign and abs(flow) >= abs(end)]
+            far = [number for flow, number in parts if is_up_to(end, flow)]
             found.append(sum(far) * end.sign)
     return found
 
