@@ -7,7 +7,7 @@ from surepipes.orders import Order
 from surepipes.ranges import flow_stretch
 from surepipes.scenes import Fed, FedScene, Held, HeldScene
 from surepipes.signs import height_stretch
-from surepipes.trials import Trial
+from surepipes.trials import Layer, Trial, put_rows, rows_of
 
 MOST_CHANGES = 20
 
@@ -75,13 +75,14 @@ class Board:
     """A scene, and what was there ahead of the last changes."""
 
     def __init__(self, scene):
-        # The scene, and a list of the earlier ones: a tuple that is replaced, so that trials bring back what was there.
-        self._now = (scene, [])
+        # The rows are scenes: the earlier ones that are remembered, and at the end the one that is there.
+        self._layer = Layer([scene])
 
     @property
     def scene(self):
         """The scene."""
-        return self._now[0]
+        scenes = rows_of(self._layer)
+        return scenes[-1]
 
     @scene.setter
     def scene(self, value):
@@ -90,33 +91,33 @@ class Board:
     @property
     def demands(self):
         """The dict of the demands; None if the scene is none of a fed net."""
-        scene = self._now[0]
+        scene = self.scene
         return scene.demands if isinstance(scene, Fed) else None
 
     @demands.setter
     def demands(self, value):
-        self._change(FedScene(self._now[0].net, value))
+        self._change(FedScene(self.scene.net, value))
 
     @property
     def poles(self):
         """The dict of the heights of the poles; None if the scene is none of a held net."""
-        scene = self._now[0]
+        scene = self.scene
         return scene.poles if isinstance(scene, Held) else None
 
     @poles.setter
     def poles(self, value):
-        self._change(HeldScene(self._now[0].net, value))
+        self._change(HeldScene(self.scene.net, value))
 
     def _change(self, scene):
-        old, past = self._now
-        kept = [*past, old]
-        self._now = (scene, kept[-MOST_CHANGES:])
+        scenes = rows_of(self._layer)
+        past = scenes[-MOST_CHANGES:]
+        put_rows(self._layer, [*past, scene])
 
     def assign(self, part, value):
         """The same as assigning to the property with this name."""
         if not isinstance(part, str) or part not in ("scene", "demands", "poles"):
             raise InvalidWord(part)
-        net = self._now[0].net
+        net = self.scene.net
         if part == "demands":
             self._change(FedScene(net, value))
         elif part == "poles":
@@ -131,7 +132,7 @@ class Board:
             raise InvalidLine(line)
         word, told = question
         answer = ANSWERS[word]
-        scene = self._now[0]
+        scene = self.scene
         try:
             return answer(scene, told)
         except (PipeError, MissingError, StateError, LimitError) as error:
@@ -139,18 +140,20 @@ class Board:
 
     def undo(self):
         """Takes back the last change that is not taken back."""
-        past = self._now[1]
-        if not past:
+        scenes = rows_of(self._layer)
+        if len(scenes) == 1:
             raise NothingToUndo()
-        self._now = (past[-1], past[:-1])
+        put_rows(self._layer, scenes[:-1])
 
     @property
     def changes(self):
         """How many changes are remembered."""
-        return len(self._now[1])
+        return len(rows_of(self._layer)) - 1
 
-    def _begin(self, rows):
-        """What a trial does of its own: nothing."""
+    def _rows_with(self, rows):
+        """The list of the scenes at the beginning of a trial, which sets none of its own."""
+        scenes = rows_of(self._layer)
+        return [*scenes, *rows]
 
     def trial(self):
         """A context manager behind whose statement the board is as it was."""

@@ -6,7 +6,7 @@ from surepipes.drains import held_fault
 from surepipes.errors import Barred, InvalidReading, InvalidWord, TooMany, UnknownNode, UnknownReading
 from surepipes.orders import Order
 from surepipes.steps import Steps
-from surepipes.trials import Trial
+from surepipes.trials import Layer, Trial, put_rows, rows_of
 
 MOST_READINGS = 16
 WORDS = (">", "=", ">=")
@@ -61,8 +61,7 @@ class Readings:
     def __init__(self, net, poles):
         self._poles = checked_poles(net, poles)
         self._net = net
-        # A list that is replaced, never changed: so trials bring back what was there.
-        self._now = []
+        self._layer = Layer([])
 
     @property
     def net(self):
@@ -76,22 +75,22 @@ class Readings:
 
     def rows(self):
         """The list of the readings, in their sequence."""
-        return list(self._now)
+        return rows_of(self._layer)
 
     def __iter__(self):
-        return iter(self._now)
+        return iter(self._layer)
 
     def __len__(self):
-        return len(self._now)
+        return len(rows_of(self._layer))
 
     def __contains__(self, value):
-        return _is_reading(self._net, value) and value in self._now
+        return _is_reading(self._net, value) and value in rows_of(self._layer)
 
     def _word_for(self, u, v):
         """The word of the reading for two values; None if there is none."""
         if not is_node(self._net, u) or not is_node(self._net, v):
             return None
-        found = [word for one, word, other in self._now if (one, other) == (u, v)]
+        found = [word for one, word, other in rows_of(self._layer) if (one, other) == (u, v)]
         return found[0] if found else None
 
     def __getitem__(self, at):
@@ -114,34 +113,34 @@ class Readings:
         self._set_all(other)
         return self
 
-    def _set_all(self, rows):
+    def _rows_with(self, rows):
+        """The list of the readings if those of a list of tuples were set, too."""
         if not isinstance(rows, (list, tuple)):
             raise InvalidReading(None)
         for position, row in enumerate(rows):
             if not _is_reading(self._net, row):
                 raise InvalidReading(position)
-        found = self._now
+        found = rows_of(self._layer)
         for row in rows:
             found = _placed(found, row)
         if len(found) > MOST_READINGS:
             raise TooMany("readings", MOST_READINGS)
-        self._now = found
+        return found
+
+    def _set_all(self, rows):
+        put_rows(self._layer, self._rows_with(rows))
 
     def drop(self, u, v):
         """Takes the reading for two nodes away, and returns its word."""
         word = self._word_for(u, v)
         if word is None:
             raise UnknownReading((u, v))
-        self._now = [row for row in self._now if (row[0], row[2]) != (u, v)]
+        put_rows(self._layer, [row for row in rows_of(self._layer) if (row[0], row[2]) != (u, v)])
         return word
 
     def copy(self):
         """Another object with the same readings."""
-        return readings_of(self._net, self._poles, self._now)
-
-    def _begin(self, rows):
-        """What a trial does."""
-        self._set_all(rows)
+        return readings_of(self._net, self._poles, rows_of(self._layer))
 
     def tried(self, *rows):
         """A context manager in whose statement these readings are set, too."""
@@ -154,7 +153,8 @@ class Readings:
 
     def _steps(self, *more):
         """The steps that are allowed with these readings more."""
-        return Steps(self._net, self._poles, [*self._now, *more])
+        rows = rows_of(self._layer)
+        return Steps(self._net, self._poles, [*rows, *more])
 
     def _come(self, *more):
         """Whether some order keeps the readings and these more."""
@@ -173,7 +173,7 @@ class Readings:
         """Whether any value is an Order that keeps the readings."""
         if not is_order_of(self._net, value) or held_fault(self._net, self._poles, value) is not None:
             return False
-        return all([is_kept(value, row) for row in self._now])
+        return all([is_kept(value, row) for row in rows_of(self._layer)])
 
     def is_closed_list(self, value):
         """Whether any value is a closed list."""
@@ -227,12 +227,13 @@ class Readings:
         """Readings of these that are barred, and possible without any one of them; None if these are possible."""
         if self._come():
             return None
-        found = self._now
-        for row in self._now:
+        rows = rows_of(self._layer)
+        found = rows
+        for row in rows:
             less = [other for other in found if other != row]
             if not Steps(self._net, self._poles, less).are_possible():
                 found = less
-        return list(found)
+        return found
 
 
 def readings_of(net, poles, rows):

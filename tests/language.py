@@ -428,31 +428,51 @@ def unchanged(node):
 
 
 def exits(made):
-    """L6: the rows of __exit__, and of the methods that it calls."""
-    waiting = ["__exit__"]
-    for name in waiting:
-        local = {}
-        for row in made[name].body:
-            if isinstance(row, ast.Assign) and is_plain_change(row, local):
-                local |= {target.id: True for target in row.targets if isinstance(target, ast.Name)}
-            elif isinstance(row, ast.Expr) and isinstance(row.value, ast.Call) and (
-                    ast.unparse(row.value.func).removeprefix("self.") in made and not row.value.args):
-                waiting.append(row.value.func.attr)
-            elif not isinstance(row, ast.Pass) and not (isinstance(row, ast.Expr) and isinstance(row.value, ast.Constant)):
-                yield row.lineno, "L6 a row of __exit__"
-        if len(local) > 1:
-            yield made[name].lineno, "L6 one local name in __exit__"
+    """L6: the rows of __exit__, and of the methods that it calls; it alone gives a local an attribute of self, once."""
+    local = None
+    for row in shown(made["__exit__"]):
+        if is_call_of_self(row, made):
+            for inner in shown(made[row.value.func.attr]):
+                if not is_plain_change(inner, {"self"}):
+                    yield inner.lineno, "L6 a row of a method that __exit__ calls"
+        elif local is None and is_local_of_self(row):
+            local = row.targets[0].id
+        elif not is_plain_change(row, {"self", local}):
+            yield row.lineno, "L6 a row of __exit__"
 
 
-def is_plain_change(row, local):
-    """Whether a local name is assigned an attribute of self, or an attribute something plain."""
-    target, value = row.targets[0], row.value
-    far = isinstance(value, ast.Attribute) and isinstance(value.value, ast.Name)
-    if isinstance(target, ast.Name):
-        return far and value.value.id == "self"
-    if not (isinstance(target, ast.Attribute) and isinstance(target.value, ast.Name)):
+def shown(node):
+    """The rows of a function behind its docstring."""
+    return node.body[1:] if ast.get_docstring(node) is not None else node.body
+
+
+def is_call_of_self(row, made):
+    """Whether a row is `self.shut()`, a method of the same class."""
+    call = row.value if isinstance(row, ast.Expr) else None
+    return isinstance(call, ast.Call) and not call.args and not call.keywords and (
+        is_attribute_of(call.func, {"self"}) and call.func.attr in made)
+
+
+def is_attribute_of(node, names):
+    return isinstance(node, ast.Attribute) and isinstance(node.value, ast.Name) and node.value.id in names
+
+
+def is_local_of_self(row):
+    """Whether a row is `net = self.net`."""
+    if not isinstance(row, ast.Assign) or not is_attribute_of(row.value, {"self"}) or len(row.targets) > 1:
         return False
-    return far or isinstance(value, ast.Constant) or isinstance(value, ast.Name) and value.id in local
+    return isinstance(row.targets[0], ast.Name) and row.targets[0].id not in ("self", "kind", "value", "trace")
+
+
+def is_plain_change(row, names):
+    """Whether an attribute of one of the names is assigned one of these, an attribute of one, or a literal."""
+    if isinstance(row, ast.Pass):
+        return True
+    if not isinstance(row, ast.Assign) or not all(is_attribute_of(target, names) for target in row.targets):
+        return False
+    value = row.value
+    return isinstance(value, ast.Constant) or is_attribute_of(value, names) or (
+        isinstance(value, ast.Name) and value.id in names)
 
 
 def assigned_properties(tree, package):

@@ -229,6 +229,17 @@ class B:
         two = self._two
         one._rows = two._rows
 """,
+    "a local name in a method that __exit__ calls": """class A:
+    def __enter__(self):
+        return self
+
+    def __exit__(self, kind, value, trace):
+        self._shut()
+
+    def _shut(self):
+        kept = self._kept
+        self._rows = kept._rows
+""",
     "with without a name": "def f(x):\n    with x():\n        return 1",
     "with over a name": "def f(x):\n    with x as y:\n        return y",
     "a comprehension in another one": "def f(x):\n    for y in x:\n        x = [[y for y in z] for z in x]",
@@ -237,6 +248,46 @@ class B:
     "a percent sign": "def f():\n    return '%'",
     "an escape": "def f():\n    return '\\r'",
 }
+
+# Rows of __exit__, rows of a method `_shut` of the same class, and which of all these rows, counted from 0, are refused.
+EXITS = [
+    ("pass", "pass", []),
+    ("self._now = self._before", "pass", []),
+    ("box = self._box; box._now = self._now; box._far = 0; self._now = box._before; self._box = box", "pass", []),
+    ("self._now = self; self._far = None", "pass", []),
+    ("self._shut()", "self._now = self._before; self._before = None", []),
+    ("box = self._box; box._now = self._now; self._shut()", "self._now = self._before", []),
+    ("self._shut()", "kept = self._kept", [1]),
+    ("self._shut()", "kept = self._kept; self._before = kept._held; self._kept = kept._ahead", [1, 2, 3]),
+    ("self._shut(); box = self._box; box._now = self._before", "kept = self._kept; self._before = kept._held", [3, 4]),
+    ("box = self._box; self._shut(); box._now = self._before", "box = self._box; self._before = box._held", [3, 4]),
+    ("box = self._box; self._shut()", "box._now = self._before", [2]),
+    ("box = self._box; kept = self._kept", "pass", [1]),
+    ("box = self._box; box._now = 1; box = self._kept", "pass", [2]),
+    ("self = self._box", "pass", [0]),
+    ("kind = self._box", "pass", [0]),
+    ("box = self._box._far", "pass", [0]),
+    ("box = self", "pass", [0]),
+    ("box = kind = self._box", "pass", [0]),
+    ("box = A()", "pass", [0]),
+    ("box._now = 1; box = self._box", "pass", [0]),
+    ("self._now = self._kept._held", "pass", [0]),
+    ("self._box._now = self._before", "pass", [0]),
+    ("self._now = kind", "pass", [0]),
+    ("value._now = 1", "pass", [0]),
+    ("self._now = -1", "pass", [0]),
+    ("self._now = list(self._before)", "pass", [0]),
+    ("self._now = self._before[0]", "pass", [0]),
+    ("self._rows[0] = self._before", "pass", [0]),
+    ("self._shut(1)", "pass", [0]),
+    ("self._box._shut()", "pass", [0]),
+    ("self._other()", "pass", [0]),
+    ("self._rows.pop()", "pass", [0]),
+    ("self._shut()", "self._shut()", [1]),
+    ("self._shut()", "self._rows.pop()", [1]),
+    ("del self._rows[0]", "pass", [0]),
+    ("raise ValueError('x')", "pass", [0]),
+]
 
 RIGHT = '''"""A file."""
 
@@ -290,8 +341,8 @@ class Box:
 
     def _shut(self):
         """It ends."""
-        kept = self._kept
-        self._box = kept._box
+        self._rows = self._before
+        self._box = None
 
     @staticmethod
     def of_rows(*rows):
@@ -343,6 +394,20 @@ class Language(unittest.TestCase):
         for name, text in WRONG.items():
             with self.subTest(name):
                 self.assertNotEqual(language.faults(text, PACKAGE), [])
+
+    def test_rows_of_exit(self):
+        for leaving, shut, refused in EXITS:
+            rows = [*leaving.split("; "), *shut.split("; ")]
+            ahead = ["class A:", "    def __exit__(self, kind, value, trace):"]
+            body = ["        " + row for row in rows]
+            body.insert(len(leaving.split("; ")), "    def _shut(self):")
+            tree = ast.parse("\n".join([*ahead, *body]))
+            made = {node.name: node for node in tree.body[0].body}
+            numbers = [node.lineno for method in made.values() for node in method.body]
+            found = [numbers.index(row) for row, _ in language.exits(made)]
+            self.assertEqual(sorted(found), refused, (leaving, shut))
+            if refused:
+                self.assertNotEqual(language.faults("\n".join([*ahead, *body]), PACKAGE), [])
 
     def test_nothing_is_found_where_nothing_is_wrong(self):
         self.assertEqual(language.faults(RIGHT, PACKAGE), [])
